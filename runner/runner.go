@@ -1,0 +1,38 @@
+// Package runner: runs of programs.
+package runner
+
+import (
+	"ward/api"
+	"ward/machine"
+	"ward/words"
+)
+
+// Run runs lines that were read without an error.
+func Run(lines []words.Line, input string, fuel int) (state api.State) {
+	m := machine.New(input)
+	// Whichever way the run ends, the state is that of the machine then.
+	defer func() { state = m.State() }()
+	for range fuel {
+		step(m, lines[m.Line])
+		if m.How != api.Stopped {
+			return
+		}
+		m.Line = m.Next
+	}
+	return
+}
+
+func step(m *machine.Machine, l words.Line) {
+	m.Next = m.Line + 1
+	if why := do(m, l); why != 0 {
+		m.Fail(why)
+	}
+}
+
+func do(m *machine.Machine, l words.Line) int {
+	w := words.At(l.Word)
+	if w.TakesR() && !m.IsSet(l.R) || w.TakesS() && !m.IsSet(l.S) {
+		return api.Unset
+	}
+	return w.Do(m, l)
+}

@@ -1,0 +1,96 @@
+package ward
+
+import (
+	"math"
+	"math/rand"
+	"runtime"
+	"strings"
+	"sync"
+	"testing"
+	"time"
+
+	"ward/api"
+)
+
+// scraps are what texts are thrown together from: lines, halves of lines, and what no line has.
+var scraps = []string{"set", "mov", "add", "div", "in", "get", "put", "load", "keep", "out", "jmp", "jlt", "jeq", "end", " ", " ", " ", "\n", "\n", "r0", "r1", "r7", "r8", "0", "1", "-1", "-", "9223372036854775807", "9223372036854775808",
+	"end r0", "out r0", "jmp 0", "jmp 1", "jlt r0 r0 0", "\x00", "\xff", "é", "\r\n", "\t", "ok", "r0=0..64"}
+
+func scrapText(r *rand.Rand) string {
+	var b strings.Builder
+	for range r.Intn(20) {
+		b.WriteString(scraps[r.Intn(len(scraps))])
+	}
+	return b.String()
+}
+
+// TestEveryCallEnds: at all strings and numbers each call answers, without a panic; beside an error there is nothing.
+func TestEveryCallEnds(t *testing.T) {
+	r := rand.New(rand.NewSource(1))
+	fuels := []int{0, 1, 7, api.MaxFuel, api.MaxFuel + 1, -1, math.MaxInt, math.MinInt}
+	texts := []string{"", "\n", strings.Repeat("\n", 1<<16), strings.Repeat(" ", 1<<16), strings.Repeat("end r0\n", 1<<12), strings.Repeat("\xff", api.MaxText)}
+	for range 20000 {
+		texts = append(texts, scrapText(r))
+	}
+	for i, text := range texts {
+		fuel := fuels[i%len(fuels)]
+		e, at := Read(text)
+		if e == api.OK && at != 0 {
+			t.Errorf("P1: Read(%q) is OK at %d", text, at)
+		}
+		s, e2, at2 := Run(text, scrapText(r), fuel)
+		if e != api.OK && (e2 != e || at2 != at) {
+			t.Errorf("P1: Read(%q) = %d, %d, but Run %d, %d", text, e, at, e2, at2)
+		}
+		if e2 != api.OK && s != (api.State{}) {
+			t.Errorf("P1: Run(%q) = %+v beside the error %d", text, s, e2)
+		}
+		if (e2 == api.OK || e2 == api.ErrConf) && at2 != 0 {
+			t.Errorf("P1: Run(%q) = %d at %d", text, e2, at2)
+		}
+	}
+}
+
+// TestLongInputs: an input may have any length.
+func TestLongInputs(t *testing.T) {
+	long := strings.Repeat("\xfe", 1<<20)
+	testRun(t, "set r1 63; in r2 r1; end r2", long, 3, api.State{How: api.Ended, Line: 2, Value: 254, Regs: regs(0, 64, 1, 63, 2, 254)})
+}
+
+// TestNoGoroutineGoesOn: calls leave none behind.
+func TestNoGoroutineGoesOn(t *testing.T) {
+	before := runtime.NumGoroutine()
+	for range 50 {
+		Read("end r0")
+		Run("jmp 0", "abc", api.MaxFuel)
+	}
+	for range 100 { // what the tests themselves began may need a moment to end
+		if runtime.NumGoroutine() <= before {
+			return
+		}
+		time.Sleep(time.Millisecond)
+	}
+	t.Errorf("P1: %d goroutines, %d ahead of the calls", runtime.NumGoroutine(), before)
+}
+
+// TestCallsSideBySide: what a call answers hangs on its arguments, whatever goes on beside it.
+func TestCallsSideBySide(t *testing.T) {
+	program := prog("set r1 1; keep r1 r0; load r2 r1; put r1 r2; get r3 r1; out r3; jlt r1 r3 8; end r1; sub r0 r1; jmp 1")
+	want := make([]api.State, 20)
+	for i := range want {
+		want[i], _, _ = Run(program, strings.Repeat("x", i), api.MaxFuel)
+	}
+	var wait sync.WaitGroup
+	for i := range want {
+		wait.Add(1)
+		go func() {
+			defer wait.Done()
+			for range 20 {
+				if s, e, at := Run(program, strings.Repeat("x", i), api.MaxFuel); s != want[i] || e != api.OK || at != 0 {
+					t.Errorf("P4: side by side: %+v, %d, %d, want %+v", s, e, at, want[i])
+				}
+			}
+		}()
+	}
+	wait.Wait()
+}
