@@ -9,20 +9,20 @@ import (
 	"ward/words"
 )
 
-// Read answers the lines of a program, or the first error with its place.
-func Read(program string) ([]words.Line, api.Errno, int) {
+// Read answers the lines of a program in the words of rows, or the first error with its place.
+func Read(rows []words.Word, program string) ([]words.Line, api.Errno, int) {
 	if isLong(program) {
 		return nil, api.ErrLong, 0
 	}
-	lines, bad := parse(strings.Split(program, "\n"))
+	lines, bad := parse(rows, strings.Split(program, "\n"))
 	if bad >= 0 {
 		return nil, api.ErrForm, bad
 	}
-	if bad := lostJump(lines); bad >= 0 {
+	if bad := lostJump(rows, lines); bad >= 0 {
 		return nil, api.ErrLine, bad
 	}
 	last := len(lines) - 1
-	if words.At(lines[last].Word).Falls {
+	if rows[lines[last].Word].Falls {
 		return nil, api.ErrEnd, last
 	}
 	return lines, api.OK, 0
@@ -34,10 +34,10 @@ func isLong(program string) bool {
 }
 
 // parse answers the first text that is no line too, or -1.
-func parse(texts []string) ([]words.Line, int) {
+func parse(rows []words.Word, texts []string) ([]words.Line, int) {
 	lines := make([]words.Line, 0, len(texts))
 	for i, text := range texts {
-		l, ok := parseLine(text)
+		l, ok := parseLine(rows, text)
 		if !ok {
 			return nil, i
 		}
@@ -47,22 +47,22 @@ func parse(texts []string) ([]words.Line, int) {
 }
 
 // lostJump answers the first line whose L is no line of the program, or -1.
-func lostJump(lines []words.Line) int {
+func lostJump(rows []words.Word, lines []words.Line) int {
 	for i, l := range lines {
-		if words.At(l.Word).Jumps() && l.N >= int64(len(lines)) {
+		if rows[l.Word].Jumps() && l.N >= int64(len(lines)) {
 			return i
 		}
 	}
 	return -1
 }
 
-func parseLine(text string) (words.Line, bool) {
+func parseLine(rows []words.Word, text string) (words.Line, bool) {
 	parts := strings.Split(text, " ")
-	row, ok := words.Find(parts[0])
+	row, ok := words.Find(rows, parts[0])
 	if !ok {
 		return words.Line{}, false
 	}
-	kinds := words.At(row).Parts
+	kinds := rows[row].Parts
 	if len(parts) != 1+len(kinds) {
 		return words.Line{}, false
 	}

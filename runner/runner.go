@@ -7,13 +7,14 @@ import (
 	"ward/words"
 )
 
-// Run runs lines that were read without an error.
-func Run(lines []words.Line, input string, fuel int) (state api.State) {
+// Run runs lines that were read in the words of rows without an error.
+func Run(rows []words.Word, lines []words.Line, input string, fuel int) (state api.State) {
 	m := machine.New(input)
 	// Whichever way the run ends, the state is that of the machine then.
 	defer func() { state = m.State() }()
 	for range fuel {
-		step(m, lines[m.Line])
+		l := lines[m.Line]
+		step(m, rows[l.Word], l)
 		if m.How != api.Stopped {
 			return
 		}
@@ -22,15 +23,14 @@ func Run(lines []words.Line, input string, fuel int) (state api.State) {
 	return
 }
 
-func step(m *machine.Machine, l words.Line) {
+func step(m *machine.Machine, w words.Word, l words.Line) {
 	m.Next = m.Line + 1
-	if why := do(m, l); why != 0 {
+	if why := do(m, w, l); why != 0 {
 		m.Fail(why)
 	}
 }
 
-func do(m *machine.Machine, l words.Line) int {
-	w := words.At(l.Word)
+func do(m *machine.Machine, w words.Word, l words.Line) int {
 	if w.TakesR() && !m.IsSet(l.R) || w.TakesS() && !m.IsSet(l.S) {
 		return api.Unset
 	}

@@ -48,6 +48,14 @@ func TestEveryCallEnds(t *testing.T) {
 		if (e2 == api.OK || e2 == api.ErrConf) && at2 != 0 {
 			t.Errorf("P1: Run(%q) = %d at %d", text, e2, at2)
 		}
+		proof := texts[len(texts)-1-i]
+		e3, at3 := Check(text, proof)
+		if e != api.OK && (e3 != e || at3 != at) || e3 == api.OK && at3 != 0 {
+			t.Errorf("P1: Read(%q) = %d, %d, but Check with %q %d, %d", text, e, at, proof, e3, at3)
+		}
+		if e3, at3 := Check("jmp 0", text); e3 == api.OK && at3 != 0 {
+			t.Errorf("P1: Check with %q is OK at %d", text, at3)
+		}
 	}
 }
 
@@ -63,6 +71,10 @@ func TestNoGoroutineGoesOn(t *testing.T) {
 	for range 50 {
 		Read("end r0")
 		Run("jmp 0", "abc", api.MaxFuel)
+		Check("end r0", "ok r0=0..64")
+		Check("end r0", "ok")
+		Check("end r0", "x")
+		Check(strings.Repeat("end r0\n", 99)+"end r0", strings.Repeat("ok\n", 99)+"ok")
 	}
 	for range 100 { // what the tests themselves began may need a moment to end
 		if runtime.NumGoroutine() <= before {

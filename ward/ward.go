@@ -3,30 +3,49 @@ package ward
 
 import (
 	"ward/api"
+	"ward/checker"
 	"ward/reader"
 	"ward/runner"
+	"ward/words"
 )
 
 // Read tells whether a text is a program (P3).
 func Read(program string) (api.Errno, int) {
-	_, e, at := reader.Read(program)
+	// The table of words that stands for good is made by the first Read; the answer does not hang on it.
+	words.Kept()
+	_, e, at := reader.Read(words.Rows(), program)
 	return e, at
 }
 
 // Run runs a program (P4).
 func Run(program string, input string, fuel int) (api.State, api.Errno, int) {
-	lines, e, at := reader.Read(program)
+	rows := words.Rows()
+	lines, e, at := reader.Read(rows, program)
 	if e != api.OK {
 		return api.State{}, e, at
 	}
 	if fuel < 0 || fuel > api.MaxFuel {
 		return api.State{}, api.ErrConf, 0
 	}
-	return runner.Run(lines, input, fuel), api.OK, 0
+	return runner.Run(rows, lines, input, fuel), api.OK, 0
 }
 
 // Check tells whether a proof proves that a program goes wrong nowhere (P5).
-func Check(program string, proof string) (api.Errno, int) { return api.OK, 0 }
+func Check(program string, proof string) (api.Errno, int) {
+	rows := words.Rows()
+	lines, e, at := reader.Read(rows, program)
+	if e != api.OK {
+		return e, at
+	}
+	list, e, at := reader.Proof(proof, len(lines))
+	if e != api.OK {
+		return e, at
+	}
+	if at := checker.Check(rows, lines, list); at >= 0 {
+		return api.ErrClaim, at
+	}
+	return api.OK, 0
+}
 
 // Prove finds a proof (P6).
 func Prove(program string) (string, api.Errno, int) { return "", api.OK, 0 }

@@ -1,62 +1,86 @@
 package words
 
 import (
-	"sync"
+	"slices"
 	"testing"
+
+	"ward/claims"
 )
-
-// rowsAtStart is counted ahead of any use of the table.
-var rowsAtStart = len(table)
-
-// TestTableIsMadeOnce: at the first use, and only then, however many use it at a time.
-func TestTableIsMadeOnce(t *testing.T) {
-	if rowsAtStart != 0 {
-		t.Errorf("the table has %d rows ahead of its first use", rowsAtStart)
-	}
-	firsts := make([]*Word, 16)
-	var wait sync.WaitGroup
-	for i := range firsts {
-		wait.Add(1)
-		go func() {
-			defer wait.Done()
-			firsts[i] = &rows()[0]
-		}()
-	}
-	wait.Wait()
-	for _, first := range firsts {
-		if first != &table[0] {
-			t.Error("the table was made more than once")
-		}
-	}
-}
 
 func TestFind(t *testing.T) {
 	names := []string{"set", "mov", "add", "sub", "mul", "and", "div", "in", "get", "put", "load", "keep", "out", "jmp", "jlt", "jeq", "end"}
+	rows := Rows()
 	for _, name := range names {
-		row, ok := Find(name)
-		if !ok || At(row).Name != name || At(row).Do == nil {
+		row, ok := Find(rows, name)
+		if !ok || rows[row].Name != name {
 			t.Errorf("no row for %q", name)
 		}
 	}
-	if len(rows()) != len(names) {
-		t.Errorf("%d rows, want %d", len(rows()), len(names))
+	if len(rows) != len(names) {
+		t.Errorf("%d rows, want %d", len(rows), len(names))
 	}
 	for _, name := range []string{"", "Set", "nop", "set ", "en"} {
-		if _, ok := Find(name); ok {
+		if _, ok := Find(rows, name); ok {
 			t.Errorf("a row for %q", name)
 		}
 	}
+	if _, ok := Find(nil, "set"); ok {
+		t.Error("a row of no rows")
+	}
 }
 
-// TestRowsFit: a word takes no register that it does not name.
+// TestRowsAreNew: whoever asks for rows has them alone.
+func TestRowsAreNew(t *testing.T) {
+	spoiled := Rows()
+	clear(spoiled)
+	if Rows()[0].Name != "set" {
+		t.Error("rows share their memory")
+	}
+}
+
+// TestRowsFit: a word takes no register that it does not name, and goes no way that it has not.
 func TestRowsFit(t *testing.T) {
-	for _, w := range rows() {
+	for _, w := range Rows() {
+		if w.Do == nil || w.Needs == nil || w.Next == nil || w.Jump == nil {
+			t.Fatalf("%s lacks a closure", w.Name)
+		}
 		hasR, hasS := w.Parts[0] == 'R', len(w.Parts) > 1 && w.Parts[1] == 'S'
 		if w.TakesR() && !hasR || w.TakesS() && !hasS {
 			t.Errorf("%s takes %q of %q", w.Name, w.Takes, w.Parts)
 		}
 		if w.Falls == (w.Name == "jmp" || w.Name == "end") {
 			t.Errorf("%s falls: %t", w.Name, w.Falls)
+		}
+		c := claims.Claim{}.With(1, claims.One(1)).With(2, claims.Span{Low: 1, High: 2})
+		l := Line{R: 1, S: 2, N: 30}
+		if next := w.Next(c, l); next.Never == w.Falls {
+			t.Errorf("%s leads to the next line: %t", w.Name, !next.Never)
+		}
+		if jump := w.Jump(c, l); jump.Never == w.Jumps() {
+			t.Errorf("%s leads to L: %t", w.Name, !jump.Never)
+		}
+	}
+}
+
+// TestExits: the next line comes ahead of L, and ways that are not gone do not come at all.
+func TestExits(t *testing.T) {
+	rows := Rows()
+	jlt, _ := Find(rows, "jlt")
+	for _, c := range []struct {
+		r, s claims.Span
+		want []int
+	}{
+		{claims.All(), claims.All(), []int{8, 3}},
+		{claims.One(1), claims.One(2), []int{3}},
+		{claims.One(2), claims.One(2), []int{8}},
+	} {
+		claim := claims.Claim{}.With(1, c.r).With(2, c.s)
+		var to []int
+		for _, exit := range rows[jlt].Exits(7, Line{Word: jlt, R: 1, S: 2, N: 3}, claim) {
+			to = append(to, exit.To)
+		}
+		if !slices.Equal(to, c.want) {
+			t.Errorf("with %v and %v the ways out of line 7 lead to %v, want %v", c.r, c.s, to, c.want)
 		}
 	}
 }
