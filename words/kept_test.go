@@ -14,6 +14,7 @@ var firstAtStart = words.First()
 
 // TestTable has its parts in this order: there is one table for all of them.
 func TestTable(t *testing.T) {
+	words.Forget()
 	t.Run("not ahead of its first use", testNotAhead)
 	t.Run("made once", testMadeOnce)
 	t.Run("its rows", testItsRows)
