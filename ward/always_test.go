@@ -56,6 +56,13 @@ func TestEveryCallEnds(t *testing.T) {
 		if e3, at3 := Check("jmp 0", text); e3 == api.OK && at3 != 0 {
 			t.Errorf("P1: Check with %q is OK at %d", text, at3)
 		}
+		found, e4, at4 := Prove(text)
+		if e != api.OK && (e4 != e || at4 != at) || e4 == api.OK && at4 != 0 {
+			t.Errorf("P1: Read(%q) = %d, %d, but Prove %d, %d", text, e, at, e4, at4)
+		}
+		if (e4 == api.OK) != (found != "") {
+			t.Errorf("P1: Prove(%q) = %q beside the error %d", text, found, e4)
+		}
 	}
 }
 
@@ -74,6 +81,9 @@ func TestNoGoroutineGoesOn(t *testing.T) {
 		Check("end r0", "ok r0=0..64")
 		Check("end r0", "ok")
 		Check("end r0", "x")
+		Prove("end r0")
+		Prove("end r1")
+		Prove("add r0 r0\njmp 0")
 		Check(strings.Repeat("end r0\n", 99)+"end r0", strings.Repeat("ok\n", 99)+"ok")
 	}
 	for range 100 { // what the tests themselves began may need a moment to end

@@ -272,12 +272,17 @@ func modelFails(lines []string, list []modelClaim, i int) bool {
 	return false
 }
 
-// modelClaims looks for claims that hold, as far as there are any; it need not find the narrowest.
+// modelClaims are the claims when in a round none changes, whether or not all needs are met then.
 func modelClaims(program string) []modelClaim {
 	lines := strings.Split(program, "\n")
 	list := make([]modelClaim, len(lines))
 	list[0] = modelClaim{"r0": span(0, 64)}
-	for round := 0; ; round++ {
+	// For each line the rounds in which its claim was changed.
+	rounds := make([]map[int]bool, len(lines))
+	for i := range rounds {
+		rounds[i] = map[int]bool{}
+	}
+	for round := 1; ; round++ {
 		changed := false
 		for i, line := range lines {
 			w := strings.Split(line, " ")
@@ -285,10 +290,15 @@ func modelClaims(program string) []modelClaim {
 				continue
 			}
 			for _, exit := range modelExits(i, w, list[i]) {
-				if !list[exit.to].follows(exit.claim) {
-					list[exit.to] = list[exit.to].join(exit.claim, round > 8)
-					changed = true
+				if list[exit.to].follows(exit.claim) {
+					continue
 				}
+				earlier := len(rounds[exit.to])
+				if rounds[exit.to][round] {
+					earlier--
+				}
+				list[exit.to] = list[exit.to].join(exit.claim, i >= exit.to && earlier > 6)
+				rounds[exit.to][round], changed = true, true
 			}
 		}
 		if !changed {

@@ -4,6 +4,8 @@ package ward
 import (
 	"ward/api"
 	"ward/checker"
+	"ward/claims"
+	"ward/prover"
 	"ward/reader"
 	"ward/runner"
 	"ward/words"
@@ -48,7 +50,18 @@ func Check(program string, proof string) (api.Errno, int) {
 }
 
 // Prove finds a proof (P6).
-func Prove(program string) (string, api.Errno, int) { return "", api.OK, 0 }
+func Prove(program string) (string, api.Errno, int) {
+	rows := words.Rows()
+	lines, e, at := reader.Read(rows, program)
+	if e != api.OK {
+		return "", e, at
+	}
+	proof, at := prover.Prove(rows, lines)
+	if at >= 0 {
+		return "", api.ErrClaim, at
+	}
+	return claims.Text(proof), api.OK, 0
+}
 
 // Trim makes a program shorter to run by its proof (P7).
 func Trim(program string, proof string) (string, api.Errno, int) { return "", api.OK, 0 }

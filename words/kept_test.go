@@ -26,6 +26,7 @@ func testNotAhead(t *testing.T) {
 	for _, text := range []string{"", "end", "end r0", "set r1 1\nend r1"} {
 		ward.Run(text, "abc", 9)
 		ward.Check(text, "ok r0=0..64")
+		ward.Prove(text)
 	}
 	if firstAtStart != nil || words.First() != nil {
 		t.Error("there is a table ahead of its first use")
@@ -80,5 +81,9 @@ func testNoAnswerHangsOnIt(t *testing.T) {
 	proof := "ok r0=0..64\nok r0=0..64 r1=2..2\nok r1=2..66\nok r1=2..66"
 	if e, at := ward.Check(program, proof); e != 0 || at != 0 {
 		t.Errorf("Check(%q, %q) = %d, %d", program, proof, e, at)
+	}
+	proof = "ok r0=0..64\nok r0=0..64 r1=2..2\nok r0=0..64 r1=2..66\nok r0=0..64 r1=2..66"
+	if found, e, at := ward.Prove(program); found != proof || e != 0 || at != 0 {
+		t.Errorf("Prove(%q) = %q, %d, %d", program, found, e, at)
 	}
 }
