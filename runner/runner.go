@@ -7,9 +7,8 @@ import (
 	"ward/words"
 )
 
-// Run runs lines that were read in the words of rows without an error.
-func Run(rows []words.Word, lines []words.Line, input string, fuel int) (state api.State) {
-	m := machine.New(input)
+// Run runs lines that were read in the words of rows without an error, on a machine that stands ahead of line 0.
+func Run(rows []words.Word, lines []words.Line, m *machine.Machine, fuel int) (state api.State) {
 	// Whichever way the run ends, the state is that of the machine then.
 	defer func() { state = m.State() }()
 	for range fuel {

@@ -63,6 +63,55 @@ func TestEveryCallEnds(t *testing.T) {
 		if (e4 == api.OK) != (found != "") {
 			t.Errorf("P1: Prove(%q) = %q beside the error %d", text, found, e4)
 		}
+		testTrimEnds(t, text, proof)
+		testTrimEnds(t, "jmp 0", text)
+	}
+}
+
+// testTrimEnds: Trim answers what Check does, and a program beside no error alone.
+func testTrimEnds(t *testing.T, program, proof string) {
+	t.Helper()
+	e, at := Check(program, proof)
+	s, e2, at2 := Trim(program, proof)
+	if e2 != e || at2 != at || (e == api.OK) != (s != "") {
+		t.Errorf("P1: Check(%q, %q) = %d, %d, but Trim %q, %d, %d", program, proof, e, at, s, e2, at2)
+	}
+}
+
+// TestEveryCallOfAHostEnds: the same of a host, on which now and then a program is loaded.
+func TestEveryCallOfAHostEnds(t *testing.T) {
+	r := rand.New(rand.NewSource(13))
+	numbers := []int{0, 1, 2, 3, 10, 11, api.MaxFuel, api.MaxFuel + 1, -1, math.MaxInt, math.MinInt}
+	h, loaded := NewHost(), 0
+	for i := range 20000 {
+		program, proof := scrapText(r), scrapText(r)
+		if i%1000 == 0 {
+			program, proof = "jmp 0", "ok"
+		}
+		want := 0
+		e, at := Check(program, proof)
+		switch {
+		case e == api.OK && loaded == api.MaxLoaded:
+			e = api.ErrFull
+		case e == api.OK:
+			loaded++
+			want = loaded
+		}
+		if id, e2, at2 := h.Load(program, proof); id != want || e2 != e || at2 != at {
+			t.Fatalf("P1: Load(%q, %q) = %d, %d, %d, want %d, %d, %d", program, proof, id, e2, at2, want, e, at)
+		}
+		id, fuel := numbers[r.Intn(len(numbers))], numbers[r.Intn(len(numbers))]
+		none := id < 1 || id > loaded
+		s, e := h.Run(id, program, fuel)
+		if none != (e == api.ErrNone) || e != api.OK && s != (api.State{}) {
+			t.Fatalf("P1: Run(%d, %q, %d) = %+v, %d, of %d programs", id, program, fuel, s, e, loaded)
+		}
+		if list, e := h.Cells(id); none != (e == api.ErrNone) || none != (len(list) == 0) {
+			t.Fatalf("P1: Cells(%d) = %v, %d, of %d programs", id, list, e, loaded)
+		}
+	}
+	if loaded != api.MaxLoaded {
+		t.Errorf("too few programs to tell anything: %d", loaded)
 	}
 }
 
@@ -76,6 +125,15 @@ func TestLongInputs(t *testing.T) {
 func TestNoGoroutineGoesOn(t *testing.T) {
 	before := runtime.NumGoroutine()
 	for range 50 {
+		h := NewHost()
+		h.Load("jmp 0", "ok")
+		h.Load("end r0", "ok")
+		h.Load("end r0", "x")
+		h.Run(1, "abc", api.MaxFuel)
+		h.Run(2, "abc", api.MaxFuel)
+		h.Cells(1)
+		Trim("end r0", "ok r0=0..64")
+		Trim("end r0", "ok")
 		Read("end r0")
 		Run("jmp 0", "abc", api.MaxFuel)
 		Check("end r0", "ok r0=0..64")

@@ -63,7 +63,12 @@ type model struct {
 }
 
 func modelRun(program, input string, fuel int) api.State {
-	m := &model{cells: map[string][]int64{"get": make([]int64, 16), "load": make([]int64, 8)}}
+	return modelRunOn(make([]int64, 8), program, input, fuel)
+}
+
+// modelRunOn begins with these cells as the ones that are kept, and leaves them as the run did.
+func modelRunOn(kept []int64, program, input string, fuel int) api.State {
+	m := &model{cells: map[string][]int64{"get": make([]int64, 16), "load": kept}}
 	for i := 0; i < len(input) && i < 64; i++ {
 		m.input[i] = int64(input[i])
 		m.s.Regs[0].N++

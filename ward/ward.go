@@ -5,9 +5,11 @@ import (
 	"ward/api"
 	"ward/checker"
 	"ward/claims"
+	"ward/machine"
 	"ward/prover"
 	"ward/reader"
 	"ward/runner"
+	"ward/trimmer"
 	"ward/words"
 )
 
@@ -26,27 +28,16 @@ func Run(program string, input string, fuel int) (api.State, api.Errno, int) {
 	if e != api.OK {
 		return api.State{}, e, at
 	}
-	if fuel < 0 || fuel > api.MaxFuel {
+	if !isFuel(fuel) {
 		return api.State{}, api.ErrConf, 0
 	}
-	return runner.Run(rows, lines, input, fuel), api.OK, 0
+	return runner.Run(rows, lines, machine.New(input), fuel), api.OK, 0
 }
 
 // Check tells whether a proof proves that a program goes wrong nowhere (P5).
 func Check(program string, proof string) (api.Errno, int) {
-	rows := words.Rows()
-	lines, e, at := reader.Read(rows, program)
-	if e != api.OK {
-		return e, at
-	}
-	list, e, at := reader.Proof(proof, len(lines))
-	if e != api.OK {
-		return e, at
-	}
-	if at := checker.Check(rows, lines, list); at >= 0 {
-		return api.ErrClaim, at
-	}
-	return api.OK, 0
+	_, _, e, at := proven(words.Rows(), program, proof)
+	return e, at
 }
 
 // Prove finds a proof (P6).
@@ -64,21 +55,29 @@ func Prove(program string) (string, api.Errno, int) {
 }
 
 // Trim makes a program shorter to run by its proof (P7).
-func Trim(program string, proof string) (string, api.Errno, int) { return "", api.OK, 0 }
-
-// Host runs proven programs, and keeps cells for each.
-type Host struct{}
-
-// NewHost makes a host (P8).
-func NewHost() *Host { return nil }
-
-// Load takes a program with its proof (P8).
-func (h *Host) Load(program string, proof string) (int, api.Errno, int) { return 0, api.OK, 0 }
-
-// Run runs one (P8).
-func (h *Host) Run(id int, input string, fuel int) (api.State, api.Errno) {
-	return api.State{}, api.OK
+func Trim(program string, proof string) (string, api.Errno, int) {
+	rows := words.Rows()
+	lines, list, e, at := proven(rows, program, proof)
+	if e != api.OK {
+		return "", e, at
+	}
+	return trimmer.Trim(rows, lines, list, program), api.OK, 0
 }
 
-// Cells tells what is kept for one (P8).
-func (h *Host) Cells(id int) ([]int64, api.Errno) { return nil, api.OK }
+// proven answers the lines of a program and the claims of a proof that holds for them, or the first error with its place.
+func proven(rows []words.Word, program, proof string) ([]words.Line, []claims.Claim, api.Errno, int) {
+	lines, e, at := reader.Read(rows, program)
+	if e != api.OK {
+		return nil, nil, e, at
+	}
+	list, e, at := reader.Proof(proof, len(lines))
+	if e != api.OK {
+		return nil, nil, e, at
+	}
+	if at := checker.Check(rows, lines, list); at >= 0 {
+		return nil, nil, api.ErrClaim, at
+	}
+	return lines, list, api.OK, 0
+}
+
+func isFuel(fuel int) bool { return fuel >= 0 && fuel <= api.MaxFuel }

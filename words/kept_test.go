@@ -27,6 +27,11 @@ func testNotAhead(t *testing.T) {
 		ward.Run(text, "abc", 9)
 		ward.Check(text, "ok r0=0..64")
 		ward.Prove(text)
+		ward.Trim(text, "ok r0=0..64")
+		h := ward.NewHost()
+		h.Load(text, "ok r0=0..64")
+		h.Run(1, "abc", 9)
+		h.Cells(1)
 	}
 	if firstAtStart != nil || words.First() != nil {
 		t.Error("there is a table ahead of its first use")
@@ -85,5 +90,18 @@ func testNoAnswerHangsOnIt(t *testing.T) {
 	proof = "ok r0=0..64\nok r0=0..64 r1=2..2\nok r0=0..64 r1=2..66\nok r0=0..64 r1=2..66"
 	if found, e, at := ward.Prove(program); found != proof || e != 0 || at != 0 {
 		t.Errorf("Prove(%q) = %q, %d, %d", program, found, e, at)
+	}
+	if s, e, at := ward.Trim("jeq r0 r0 1\nend r0", "ok r0=0..64\nok r0=0..64"); s != "jmp 1\nend r0" || e != 0 || at != 0 {
+		t.Errorf("Trim = %q, %d, %d", s, e, at)
+	}
+	h := ward.NewHost()
+	if id, e, at := h.Load(program, proof); id != 1 || e != 0 || at != 0 {
+		t.Errorf("Load(%q, %q) = %d, %d, %d", program, proof, id, e, at)
+	}
+	if s, e := h.Run(1, "xxx", 9); s.Value != 5 || s.Out != "5" || e != 0 {
+		t.Errorf("Run(1) = %+v, %d", s, e)
+	}
+	if list, e := h.Cells(1); len(list) != 8 || e != 0 {
+		t.Errorf("Cells(1) = %v, %d", list, e)
 	}
 }
